@@ -64,7 +64,7 @@ func Reach(f api.Fade, level int) (int, bool, api.Fault) {
 	if x := CheckFade(f); x != api.OK {
 		return 0, false, x
 	}
-	if !isLevel(level) {
+	if !IsLevel(level) {
 		return 0, false, api.ErrRange
 	}
 	at := course(f)

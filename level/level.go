@@ -3,7 +3,8 @@ package level
 
 import "cyclorama/api"
 
-func isLevel(n int) bool { return n >= 0 && n <= api.Full }
+// IsLevel says whether a number is a level.
+func IsLevel(n int) bool { return n >= 0 && n <= api.Full }
 
 func isTime(n int) bool { return n >= 0 && n <= api.MaxTime }
 
@@ -14,7 +15,7 @@ func isPart(part, whole int) bool {
 
 func areLevels(l ...int) bool {
 	for _, n := range l {
-		if !isLevel(n) {
+		if !IsLevel(n) {
 			return false
 		}
 	}
@@ -39,7 +40,7 @@ func Mix(a, b, part, whole int) (int, api.Fault) {
 
 // Octet returns the byte that a level has in a slot.
 func Octet(level int) (byte, api.Fault) {
-	if !isLevel(level) {
+	if !IsLevel(level) {
 		return 0, api.ErrRange
 	}
 	return byte(share(level, api.Full).of(255)), api.OK

@@ -12,6 +12,12 @@ import (
 // samples are levels at and around places where a rounding could go wrong.
 var samples = []int{0, 1, 2, 127, 128, 129, 255, 256, 257, 32767, 32768, 32769, 65278, 65534, api.Full}
 
+func TestIsLevel(t *testing.T) {
+	for _, n := range extremes {
+		same(t, fmt.Sprint("IsLevel ", n), level.IsLevel(n), n >= 0 && n <= 65535)
+	}
+}
+
 func TestScale(t *testing.T) {
 	for _, a := range samples {
 		for b := 0; b <= api.Full; b += 51 {

@@ -30,7 +30,7 @@ func ofPercent(hundredths int) int {
 
 // Show returns the shortest usual text of a level.
 func Show(level int) (string, api.Fault) {
-	if !isLevel(level) {
+	if !IsLevel(level) {
 		return "", api.ErrRange
 	}
 	switch level {
@@ -55,7 +55,7 @@ func Read(text string) (int, api.Fault) {
 		return api.Full, api.OK
 	}
 	if digits, ok := strings.CutPrefix(text, "#"); ok {
-		if n, ok := decimal.Number(digits); ok && isLevel(n) {
+		if n, ok := decimal.Number(digits); ok && IsLevel(n) {
 			return n, api.OK
 		}
 	}

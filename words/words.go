@@ -1,0 +1,98 @@
+// Package words has what the texts of all chapters are made of: names, lines, and the words of a line.
+package words
+
+import (
+	"strings"
+
+	"cyclorama/api"
+	"cyclorama/decimal"
+)
+
+const plain = "abcdefghijklmnopqrstuvwxyz0123456789-"
+
+// IsPlain says whether a text is a row of a to z, 0 to 9 and hyphens, of at least one byte.
+func IsPlain(text string) bool {
+	return text != "" && strings.Trim(text, plain) == ""
+}
+
+// IsName says whether a text is a name.
+func IsName(text string) bool {
+	return len(text) <= api.MaxName && IsPlain(text) && text[0] >= 'a' && text[0] <= 'z'
+}
+
+// ReadLines gives read the lines of a text one after the other. It returns the number, from 1 on, of the first line that read does not take or that does not end with the byte 10, and 0 if there is none.
+func ReadLines(text string, read func(line string) bool) int {
+	for number := 1; text != ""; number++ {
+		line, rest, ended := strings.Cut(text, "\n")
+		if !ended || !read(line) {
+			return number
+		}
+		text = rest
+	}
+	return 0
+}
+
+// Line is the words of a line that are still to be read, from the left to the right. Behind the first word that is not as it must be none is read any more, so that only Ended has to be looked at.
+type Line struct {
+	words []string
+	wrong bool
+}
+
+// Split returns the words of a line, which single blanks separate.
+func Split(line string) *Line {
+	return &Line{words: strings.Split(line, " ")}
+}
+
+// Ended says whether all words were read, and each one was as it must be.
+func (l *Line) Ended() bool { return !l.wrong && len(l.words) == 0 }
+
+// Must says what must be true of the words that were read.
+func (l *Line) Must(ok bool) {
+	if !ok {
+		l.wrong = true
+	}
+}
+
+// Next reads a word, which must be there.
+func (l *Line) Next() string {
+	l.Must(len(l.words) > 0)
+	if l.wrong {
+		return ""
+	}
+	word := l.words[0]
+	l.words = l.words[1:]
+	return word
+}
+
+// Fixed reads a word that must be this one.
+func (l *Line) Fixed(word string) { l.Must(l.Next() == word) }
+
+// Option reads a word if it is this one, and says whether it is.
+func (l *Line) Option(word string) bool {
+	there := !l.wrong && len(l.words) > 0 && l.words[0] == word
+	if there {
+		l.words = l.words[1:]
+	}
+	return there
+}
+
+// Plain reads a word of the bytes that names have.
+func (l *Line) Plain() string {
+	word := l.Next()
+	l.Must(IsPlain(word))
+	return word
+}
+
+// Number reads a number.
+func (l *Line) Number() int {
+	n, ok := decimal.Number(l.Next())
+	l.Must(ok)
+	return n
+}
+
+// Take reads a word by the function that reads such values.
+func Take[T any](l *Line, read func(word string) (T, api.Fault)) T {
+	value, fault := read(l.Next())
+	l.Must(fault == api.OK)
+	return value
+}
