@@ -118,7 +118,7 @@ func Ease(c api.Curve, part, whole int) (int, api.Fault) {
 	if x := CheckCurve(c); x != api.OK {
 		return 0, x
 	}
-	if !isPart(part, whole) {
+	if !IsPart(part, whole) {
 		return 0, api.ErrRange
 	}
 	return shape(c)(part, whole).of(api.Full), api.OK

@@ -8,8 +8,8 @@ func IsLevel(n int) bool { return n >= 0 && n <= api.Full }
 
 func isTime(n int) bool { return n >= 0 && n <= api.MaxTime }
 
-// isPart says whether part / whole can be done of something.
-func isPart(part, whole int) bool {
+// IsPart says whether part / whole can be done of something.
+func IsPart(part, whole int) bool {
 	return whole >= 1 && whole <= api.MaxTime && part >= 0 && part <= whole
 }
 
@@ -32,7 +32,7 @@ func Scale(a, b int) (int, api.Fault) {
 
 // Mix returns the level after part / whole of the way from a to b, rounded.
 func Mix(a, b, part, whole int) (int, api.Fault) {
-	if !areLevels(a, b) || !isPart(part, whole) {
+	if !areLevels(a, b) || !IsPart(part, whole) {
 		return 0, api.ErrRange
 	}
 	return share(part, whole).between(a, b), api.OK

@@ -18,6 +18,19 @@ func TestIsLevel(t *testing.T) {
 	}
 }
 
+func TestIsPart(t *testing.T) {
+	for _, whole := range extremes {
+		for _, part := range append([]int{whole}, extremes...) {
+			same(t, fmt.Sprint("IsPart ", part, "/", whole), level.IsPart(part, whole), whole >= 1 && whole <= 36000000 && part >= 0 && part <= whole)
+		}
+	}
+	for _, whole := range []int{1, 2, 1000, 36000000} {
+		same(t, "IsPart of the end", level.IsPart(whole, whole), true)
+		same(t, "IsPart beyond the end", level.IsPart(whole+1, whole), false)
+	}
+	same(t, "IsPart of too much", level.IsPart(0, 36000001), false)
+}
+
 func TestScale(t *testing.T) {
 	for _, a := range samples {
 		for b := 0; b <= api.Full; b += 51 {

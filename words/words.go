@@ -1,4 +1,4 @@
-// Package words has what the texts of all chapters are made of: names, lines, and the words of a line.
+// Package words has what the texts of all chapters are made of: names, titles, lines, and the words of a line.
 package words
 
 import (
@@ -20,16 +20,37 @@ func IsName(text string) bool {
 	return len(text) <= api.MaxName && IsPlain(text) && text[0] >= 'a' && text[0] <= 'z'
 }
 
-// ReadLines gives read the lines of a text one after the other. It returns the number, from 1 on, of the first line that read does not take or that does not end with the byte 10, and 0 if there is none.
-func ReadLines(text string, read func(line string) bool) int {
+// IsTitle says whether a text is a title.
+func IsTitle(text string) bool {
+	for i := range len(text) {
+		if text[i] < ' ' || text[i] > '~' {
+			return false
+		}
+	}
+	return text != "" && len(text) <= api.MaxTitle && strings.Trim(text, " ") == text
+}
+
+// Limited returns a text, if it has no more bytes than it may have.
+func Limited(text string, most int) (string, api.Fault) {
+	if len(text) > most {
+		return "", api.ErrLarge
+	}
+	return text, api.OK
+}
+
+// ReadLines gives read the lines of a text one after the other. Errors: ErrLarge if the text has more bytes than it may have; ErrSyntax for the first line that read does not take or that does not end with the byte 10, with its number, from 1 on.
+func ReadLines(text string, most int, read func(line string) bool) (int, api.Fault) {
+	if len(text) > most {
+		return 0, api.ErrLarge
+	}
 	for number := 1; text != ""; number++ {
 		line, rest, ended := strings.Cut(text, "\n")
 		if !ended || !read(line) {
-			return number
+			return number, api.ErrSyntax
 		}
 		text = rest
 	}
-	return 0
+	return 0, api.OK
 }
 
 // Line is the words of a line that are still to be read, from the left to the right. Behind the first word that is not as it must be none is read any more, so that only Ended has to be looked at.
@@ -62,6 +83,17 @@ func (l *Line) Next() string {
 	word := l.words[0]
 	l.words = l.words[1:]
 	return word
+}
+
+// Rest reads all words that are left as one text, which must have at least one byte.
+func (l *Line) Rest() string {
+	if l.wrong {
+		return ""
+	}
+	text := strings.Join(l.words, " ")
+	l.words = nil
+	l.Must(text != "")
+	return text
 }
 
 // Fixed reads a word that must be this one.

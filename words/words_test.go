@@ -45,7 +45,34 @@ func TestNameLength(t *testing.T) {
 	}
 }
 
+func TestTitle(t *testing.T) {
+	for b := range 256 {
+		text := string([]byte{byte(b)})
+		seen, blank := b >= 32 && b <= 126, b == 32
+		for full, want := range map[string]bool{text: seen && !blank, text + "a": seen && !blank, "a" + text: seen && !blank, "a" + text + "a": seen} {
+			if words.IsTitle(full) != want {
+				t.Errorf("IsTitle(%q): got %v", full, !want)
+			}
+		}
+	}
+	for n := range 2 * api.MaxTitle {
+		if want := n >= 1 && n <= api.MaxTitle; words.IsTitle(strings.Repeat("a", n)) != want {
+			t.Errorf("IsTitle of %d bytes: got %v", n, !want)
+		}
+	}
+}
+
+func TestLimited(t *testing.T) {
+	for text, want := range map[string]api.Fault{"": api.OK, "abc": api.OK, "abcd": api.ErrLarge} {
+		got, fault := words.Limited(text, 3)
+		if fault != want || fault == api.OK && got != text || fault != api.OK && got != "" {
+			t.Errorf("Limited(%q, 3): got %q %d", text, got, fault)
+		}
+	}
+}
+
 func TestReadLines(t *testing.T) {
+	const most = 9
 	for _, c := range []struct {
 		text  string
 		lines []string
@@ -61,17 +88,31 @@ func TestReadLines(t *testing.T) {
 		{"a\nno", []string{"a"}, 2},
 		{"no\na", nil, 1},
 		{"a\r\nb\n", []string{"a\r", "b"}, 0},
+		{"12345678\n", []string{"12345678"}, 0},
 	} {
 		var lines []string
-		wrong := words.ReadLines(c.text, func(line string) bool {
+		wrong, fault := words.ReadLines(c.text, most, func(line string) bool {
 			if line == "no" {
 				return false
 			}
 			lines = append(lines, line)
 			return true
 		})
-		if wrong != c.wrong || !slices.Equal(lines, c.lines) {
-			t.Errorf("ReadLines(%q): got %q %d, want %q %d", c.text, lines, wrong, c.lines, c.wrong)
+		want := api.OK
+		if c.wrong > 0 {
+			want = api.ErrSyntax
+		}
+		if wrong != c.wrong || fault != want || !slices.Equal(lines, c.lines) {
+			t.Errorf("ReadLines(%q): got %q %d %d, want %q %d %d", c.text, lines, wrong, fault, c.lines, c.wrong, want)
+		}
+	}
+	for _, text := range []string{"no\nand more", "aaaaaaaaa\n"} {
+		wrong, fault := words.ReadLines(text, most, func(line string) bool {
+			t.Errorf("ReadLines(%q): a line of what is too large is read", text)
+			return true
+		})
+		if wrong != 0 || fault != api.ErrLarge {
+			t.Errorf("ReadLines(%q): got %d %d", text, wrong, fault)
 		}
 	}
 }
@@ -107,6 +148,28 @@ func TestLine(t *testing.T) {
 		got := fmt.Sprint(l.Number(), " ", l.Plain(), " ", l.Option("snap"), " ", words.Take(l, readOut), " ", l.Next(), " ", l.Ended())
 		if got != want {
 			t.Errorf("%q: got %s, want %s", line, got, want)
+		}
+	}
+}
+
+// TestRest reads lines of a number and the rest.
+func TestRest(t *testing.T) {
+	for line, want := range map[string]string{
+		"5 a":      "5 a true",
+		"5 a b  c": "5 a b  c true",
+		"5  a ":    "5  a  true",
+		"5  ":      "5   true",
+		"5 ":       "5  false",
+		"5":        "5  false",
+		"x a b":    "0  false",
+	} {
+		l := words.Split(line)
+		got := fmt.Sprint(l.Number(), " ", l.Rest(), " ", l.Ended())
+		if got != want {
+			t.Errorf("%q: got %s, want %s", line, got, want)
+		}
+		if more := l.Rest(); more != "" || l.Ended() {
+			t.Errorf("%q: behind the rest there is %q", line, more)
 		}
 	}
 }
