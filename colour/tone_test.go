@@ -31,7 +31,7 @@ func TestToneOf(t *testing.T) {
 		rgb(2, 1, 0): {Hue: 32768, Saturation: 65535, Value: 2},
 		rgb(2, 0, 1): {Hue: 6*65535 - 32767, Saturation: 65535, Value: 2},
 		rgb(2, 1, 1): {Hue: 0, Saturation: 32768, Value: 2},
-		// It is rounded to the end of the circle, which is its begin.
+		// The last hue of the circle.
 		rgb(65535, 0, 1): {Hue: 6*65535 - 1, Saturation: 65535, Value: 65535},
 	} {
 		same(t, fmt.Sprint("ToneOf ", c), results(colour.ToneOf(c)), results(want, api.OK))
@@ -87,7 +87,7 @@ func TestFromTone(t *testing.T) {
 	}
 }
 
-// TestToneAndBack looks at the tones of the full colours of the circle, which have no two colours.
+// TestToneAndBack looks whether all hues come back from their full colours.
 func TestToneAndBack(t *testing.T) {
 	for hue := range 6 * 65535 {
 		tone := api.Tone{Hue: hue, Saturation: api.Full, Value: api.Full}
