@@ -11,7 +11,7 @@ func CheckFade(f api.Fade) api.Fault {
 	if !areLevels(f.From, f.To) {
 		return api.ErrRange
 	}
-	if !isTime(f.Start) || !isTime(f.Delay) || !isTime(f.Time) || !isTime(end(f)) {
+	if !IsTime(f.Start) || !IsTime(f.Delay) || !IsTime(f.Time) || !IsTime(end(f)) {
 		return api.ErrRange
 	}
 	return CheckCurve(f.Curve)
@@ -45,7 +45,7 @@ func At(f api.Fade, t int) (int, api.Fault) {
 	if x := CheckFade(f); x != api.OK {
 		return 0, x
 	}
-	if !isTime(t) {
+	if !IsTime(t) {
 		return 0, api.ErrRange
 	}
 	return course(f)(t), api.OK

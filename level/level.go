@@ -6,7 +6,8 @@ import "cyclorama/api"
 // IsLevel says whether a number is a level.
 func IsLevel(n int) bool { return n >= 0 && n <= api.Full }
 
-func isTime(n int) bool { return n >= 0 && n <= api.MaxTime }
+// IsTime says whether a number is a time.
+func IsTime(n int) bool { return n >= 0 && n <= api.MaxTime }
 
 // IsPart says whether part / whole can be done of something.
 func IsPart(part, whole int) bool {

@@ -18,6 +18,12 @@ func TestIsLevel(t *testing.T) {
 	}
 }
 
+func TestIsTime(t *testing.T) {
+	for _, n := range append(extremes, -1, 0, 35999999, 36000000, 36000001) {
+		same(t, fmt.Sprint("IsTime ", n), level.IsTime(n), n >= 0 && n <= 36000000)
+	}
+}
+
 func TestIsPart(t *testing.T) {
 	for _, whole := range extremes {
 		for _, part := range append([]int{whole}, extremes...) {

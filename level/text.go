@@ -69,7 +69,7 @@ func Read(text string) (int, api.Fault) {
 
 // ShowTime returns the text of a time.
 func ShowTime(time int) (string, api.Fault) {
-	if !isTime(time) {
+	if !IsTime(time) {
 		return "", api.ErrRange
 	}
 	minutes, rest := time/oneMinute, time%oneMinute
@@ -89,7 +89,7 @@ func ReadTime(text string) (int, api.Fault) {
 	if !ok {
 		return 0, api.ErrSyntax
 	}
-	if !isTime(time) {
+	if !IsTime(time) {
 		return 0, api.ErrRange
 	}
 	return time, api.OK

@@ -29,8 +29,8 @@ func keysOf(r api.Rig) (keySet, api.Fault) {
 	return k, api.OK
 }
 
-// compareKeys orders keys by unit, then by parameter.
-func compareKeys(a, b api.Key) int {
+// CompareKeys orders keys by unit, then by parameter.
+func CompareKeys(a, b api.Key) int {
 	return cmp.Or(cmp.Compare(a.Unit, b.Unit), cmp.Compare(a.Param, b.Param))
 }
 
@@ -86,7 +86,7 @@ func (k keySet) checkPreset(p api.Preset, ahead int) api.Fault {
 		if fault := k.checkSetting(s); fault != api.OK {
 			return fault
 		}
-		if i > 0 && compareKeys(s.Key, p.Settings[i-1].Key) <= 0 {
+		if i > 0 && CompareKeys(s.Key, p.Settings[i-1].Key) <= 0 {
 			return api.ErrOrder
 		}
 	}
@@ -112,7 +112,7 @@ func sorted(lists ...[]api.Setting) []api.Setting {
 		}
 	}
 	var settings []api.Setting
-	for _, key := range slices.SortedFunc(maps.Keys(last), compareKeys) {
+	for _, key := range slices.SortedFunc(maps.Keys(last), CompareKeys) {
 		settings = append(settings, api.Setting{Key: key, Level: last[key]})
 	}
 	return settings

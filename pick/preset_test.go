@@ -1,6 +1,7 @@
 package pick_test
 
 import (
+	"cmp"
 	"fmt"
 	"math"
 	"slices"
@@ -94,6 +95,15 @@ func TestCheckPresetsInOrder(t *testing.T) {
 		same(t, name, pick.CheckPresets(c.r, c.l), c.want)
 		same(t, "Units with "+name, results(pick.Units(c.r, groupsOf(group(1)), c.l, api.Pick{})), results([]int{}, c.want))
 		same(t, "Record with "+name, results(pick.Record(c.r, c.l, 0, " ", make([]api.Setting, 20001), true)), results([]int{}, c.want))
+	}
+}
+
+func TestCompareKeys(t *testing.T) {
+	keys := []api.Key{{Unit: math.MinInt, Param: "z"}, {}, {Param: "a"}, {Unit: 2}, {Unit: 2, Param: "B"}, {Unit: 2, Param: "a-b"}, {Unit: 2, Param: "a1"}, {Unit: 10, Param: "a"}, {Unit: math.MaxInt}}
+	for i, a := range keys {
+		for j, b := range keys {
+			same(t, fmt.Sprintf("CompareKeys(%+v, %+v)", a, b), pick.CompareKeys(a, b), cmp.Compare(i, j))
+		}
 	}
 }
 

@@ -1,7 +1,8 @@
-// Package words has what the texts of all chapters are made of: names, titles, lines, and the words of a line.
+// Package words has what the texts of all chapters are made of: names, titles, keys, lines, and the words of a line.
 package words
 
 import (
+	"strconv"
 	"strings"
 
 	"cyclorama/api"
@@ -28,6 +29,34 @@ func IsTitle(text string) bool {
 		}
 	}
 	return text != "" && len(text) <= api.MaxTitle && strings.Trim(text, " ") == text
+}
+
+// InQuotes returns what a title that is not empty adds to the end of a line.
+func InQuotes(title string) string {
+	if title == "" {
+		return ""
+	}
+	return ` "` + title + `"`
+}
+
+// CutTitle returns what stands ahead of the title of a line, and the title, which can have quotes itself and need not be right. It is empty if there is none. Not ok: the title does not end with the line, or nothing stands between its quotes.
+func CutTitle(line string) (ahead, title string, ok bool) {
+	ahead, quoted, there := strings.Cut(line, ` "`)
+	title, ended := strings.CutSuffix(quoted, `"`)
+	return ahead, title, !there || ended && title != ""
+}
+
+// KeyText returns the text of a key.
+func KeyText(k api.Key) string { return strconv.Itoa(k.Unit) + "." + k.Param }
+
+// ReadKey returns the key of a text as KeyText writes it, for each number and each row as IsPlain has them.
+func ReadKey(text string) (api.Key, api.Fault) {
+	unit, param, _ := strings.Cut(text, ".")
+	n, ok := decimal.Number(unit)
+	if !ok || !IsPlain(param) {
+		return api.Key{}, api.ErrSyntax
+	}
+	return api.Key{Unit: n, Param: param}, api.OK
 }
 
 // Limited returns a text, if it has no more bytes than it may have.

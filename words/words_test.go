@@ -62,6 +62,64 @@ func TestTitle(t *testing.T) {
 	}
 }
 
+func TestCutTitle(t *testing.T) {
+	for line, want := range map[string][3]string{
+		`a b`:            {`a b`, ``, "true"},
+		``:               {``, ``, "true"},
+		`a "b"`:          {`a`, `b`, "true"},
+		`a "b" "c"`:      {`a`, `b" "c`, "true"},
+		`a """`:          {`a`, `"`, "true"},
+		`a " "`:          {`a`, ` `, "true"},
+		"a \"\xff\x00\"": {`a`, "\xff\x00", "true"},
+		` "b"`:           {``, `b`, "true"},
+		`a  "b"`:         {`a `, `b`, "true"},
+		`a"b"`:           {`a"b"`, ``, "true"},
+		`a"b "c"`:        {`a"b`, `c`, "true"},
+		`a ""`:           {`a`, ``, "false"},
+		`a "`:            {`a`, ``, "false"},
+		`a "b`:           {`a`, `b`, "false"},
+		`a "b" `:         {`a`, `b" `, "false"},
+		`a "b"c`:         {`a`, `b"c`, "false"},
+	} {
+		ahead, title, ok := words.CutTitle(line)
+		if got := [3]string{ahead, title, fmt.Sprint(ok)}; got != want {
+			t.Errorf("CutTitle(%q): got %q, want %q", line, got, want)
+		}
+	}
+}
+
+func TestInQuotes(t *testing.T) {
+	for title, want := range map[string]string{"": "", "A": ` "A"`, `a "b" c`: ` "a "b" c"`, `"`: ` """`} {
+		if got := words.InQuotes(title); got != want {
+			t.Errorf("InQuotes(%q): got %q, want %q", title, got, want)
+		}
+		if ahead, read, ok := words.CutTitle("5" + want); ahead != "5" || read != title || !ok {
+			t.Errorf("CutTitle(%q): got %q %q %v", "5"+want, ahead, read, ok)
+		}
+	}
+}
+
+func TestKeys(t *testing.T) {
+	for text, want := range map[string]api.Key{
+		"1.dim":         {Unit: 1, Param: "dim"},
+		"9999.pan-2":    {Unit: 9999, Param: "pan-2"},
+		"0.-":           {Unit: 0, Param: "-"},
+		"999999999.007": {Unit: 999999999, Param: "007"},
+	} {
+		if got, fault := words.ReadKey(text); got != want || fault != api.OK {
+			t.Errorf("ReadKey(%q): got %v %d", text, got, fault)
+		}
+		if got := words.KeyText(want); got != text {
+			t.Errorf("KeyText(%v): got %q", want, got)
+		}
+	}
+	for _, text := range []string{"", ".", "1", "1.", ".dim", "dim", "01.dim", "1..dim", "1.dim.", "1.Dim", "1.d m", " 1.dim", "1.dim ", "-1.dim", "1 .dim", "1000000000.dim", "x.dim", "1,dim"} {
+		if got, fault := words.ReadKey(text); got != (api.Key{}) || fault != api.ErrSyntax {
+			t.Errorf("ReadKey(%q): got %v %d", text, got, fault)
+		}
+	}
+}
+
 func TestLimited(t *testing.T) {
 	for text, want := range map[string]api.Fault{"": api.OK, "abc": api.OK, "abcd": api.ErrLarge} {
 		got, fault := words.Limited(text, 3)
