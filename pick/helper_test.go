@@ -20,11 +20,11 @@ func same(t *testing.T, name string, got, want any) {
 
 type list []any
 
-// String has texts in quotes, so that it shows where they end.
+// String has each value twice: in quotes it shows where texts end, but not which number it is, if that is no rune.
 func (l list) String() string {
 	var s []string
 	for _, x := range l {
-		s = append(s, fmt.Sprintf("%+q", x))
+		s = append(s, fmt.Sprintf("%+v %+q", x, x))
 	}
 	return strings.Join(s, " ")
 }
