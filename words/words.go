@@ -96,6 +96,9 @@ func Split(line string) *Line {
 // Ended says whether all words were read, and each one was as it must be.
 func (l *Line) Ended() bool { return !l.wrong && len(l.words) == 0 }
 
+// More says whether there are words still to be read.
+func (l *Line) More() bool { return !l.wrong && len(l.words) > 0 }
+
 // Must says what must be true of the words that were read.
 func (l *Line) Must(ok bool) {
 	if !ok {
@@ -130,7 +133,7 @@ func (l *Line) Fixed(word string) { l.Must(l.Next() == word) }
 
 // Option reads a word if it is this one, and says whether it is.
 func (l *Line) Option(word string) bool {
-	there := !l.wrong && len(l.words) > 0 && l.words[0] == word
+	there := l.More() && l.words[0] == word
 	if there {
 		l.words = l.words[1:]
 	}

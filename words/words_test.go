@@ -210,6 +210,28 @@ func TestLine(t *testing.T) {
 	}
 }
 
+// TestMore reads lines of numbers, as many as there are.
+func TestMore(t *testing.T) {
+	for line, want := range map[string]string{
+		"5":         "[5] true",
+		"5 6 7":     "[5 6 7] true",
+		"5 x 7":     "[5 0] false",
+		"5 6 ":      "[5 6 0] false",
+		"":          "[0] false",
+		"x":         "[0] false",
+		"123 05 78": "[123 0] false",
+	} {
+		l := words.Split(line)
+		var numbers []int
+		for l.More() {
+			numbers = append(numbers, l.Number())
+		}
+		if got := fmt.Sprint(numbers, " ", l.Ended()); got != want {
+			t.Errorf("%q: got %s, want %s", line, got, want)
+		}
+	}
+}
+
 // TestRest reads lines of a number and the rest.
 func TestRest(t *testing.T) {
 	for line, want := range map[string]string{
