@@ -36,7 +36,7 @@ func Text(r api.Rig, presets []api.Preset, l []api.Cue) (string, api.Fault) {
 }
 
 func cueText(c api.Cue) string {
-	text := "cue " + decimal.ShowParts(c.Number, numberPlaces)
+	text := "cue " + NumberText(c.Number)
 	text += timeText(" delay ", c.Delay) + timeText(" up ", c.Up) + timeText(" down ", c.Down) + timeText(" other ", c.Other)
 	if c.Block {
 		text += " block"
@@ -112,7 +112,7 @@ func readCue(line string) (api.Cue, bool) {
 	w := words.Split(ahead)
 	w.Must(ok)
 	w.Fixed("cue")
-	c := newCue(words.Take(w, readNumber))
+	c := newCue(words.Take(w, ReadNumber))
 	c.Title = title
 	c.Delay, c.Up = readTime(w, "delay"), readTime(w, "up")
 	c.Down, c.Other = readTime(w, "down"), readTime(w, "other")
@@ -128,8 +128,11 @@ func readCue(line string) (api.Cue, bool) {
 	return c, w.Ended()
 }
 
-// readNumber returns the number of a cue, in thousandths.
-func readNumber(text string) (int, api.Fault) {
+// NumberText returns the text of the number of a cue, which must be from 0 on.
+func NumberText(number int) string { return decimal.ShowParts(number, numberPlaces) }
+
+// ReadNumber returns the number of a text as NumberText writes it, with so many digits as the number of a cue can have. It need not be one that cues have.
+func ReadNumber(text string) (int, api.Fault) {
 	whole, _, _ := strings.Cut(text, ".")
 	n, ok := decimal.ReadParts(text, numberPlaces)
 	if !ok || len(whole) > maxWholeDigits {

@@ -186,3 +186,14 @@ func TestLengths(t *testing.T) {
 	l[4].Moves[0].Key.Unit = 1400
 	same(t, "a text of one byte more, and a wrong list", results(cue.Text(r, nil, l)), results("", api.ErrOrder))
 }
+
+// TestNumbers writes and reads the numbers of cues by themselves (Q2).
+func TestNumbers(t *testing.T) {
+	for text, n := range map[string]int{"0": 0, "0.001": 1, "0.5": 500, "1": 1000, "12.5": 12500, "12.05": 12050, "9999.999": 9999999, "9999999.999": 9999999999} {
+		same(t, "NumberText of "+text, cue.NumberText(n), text)
+		same(t, "ReadNumber of "+text, results(cue.ReadNumber(text)), results(n, api.OK))
+	}
+	for _, text := range []string{"", ".", "1.", ".5", "01", "1.0", "1.50", "1.2345", "10000000", "-1", "+1", " 1", "x"} {
+		same(t, "ReadNumber of "+text, results(cue.ReadNumber(text)), results(0, api.ErrSyntax))
+	}
+}

@@ -188,3 +188,31 @@ func TestFollowsOfFaults(t *testing.T) {
 	same(t, "back behind the follow", d.Do(back(10, 1)), api.OK)
 	stands(t, d, 1, 10, 1000, 20, run(dim, 1311, 655, 10, 0, 0, 3))
 }
+
+// TestForms looks at actions by themselves: whether they use the right fields, of which kinds are of a playback, and which levels they can have (P2).
+func TestForms(t *testing.T) {
+	rows := []struct {
+		a     api.Action
+		form  api.Fault
+		of    bool
+		level api.Fault
+	}{
+		{goes(0, 1), api.OK, true, api.OK},
+		{api.Action{Kind: api.ActGo, Level: 1}, api.ErrForm, true, api.OK},
+		{api.Action{Kind: api.ActBack, Cue: 1}, api.ErrForm, true, api.OK},
+		{jump(-1, 99, -1), api.OK, true, api.OK},
+		{release(0, 1, api.MaxTime), api.OK, true, api.OK},
+		{release(0, 1, api.MaxTime+1), api.OK, true, api.ErrRange},
+		{fader(0, 0, api.Full), api.OK, true, api.OK},
+		{fader(0, 0, api.Full+1), api.OK, true, api.ErrRange},
+		{grand(0, -1), api.OK, false, api.ErrRange},
+		{api.Action{Kind: api.ActGrand, Playback: 1}, api.ErrForm, false, api.OK},
+		{black(0, 1), api.OK, false, api.OK},
+		{black(0, 2), api.OK, false, api.ErrRange},
+		{api.Action{Kind: 10, Cue: 1}, api.ErrKind, true, api.OK},
+		{api.Action{Cue: 1}, api.ErrKind, true, api.OK},
+	}
+	for _, r := range rows {
+		same(t, fmt.Sprintf("CheckForm, OfPlayback and CheckLevel of %+v", r.a), results(play.CheckForm(r.a), play.OfPlayback(r.a), play.CheckLevel(r.a)), results(r.form, r.of, r.level))
+	}
+}
